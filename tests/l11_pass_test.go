@@ -322,33 +322,27 @@ func eachTelling(u impl.Unit, shapes []impl.Shape, visit func(u impl.Unit)) {
 	}
 }
 
-// P22 to P25, P30: all small methods, told nothing, what is inferred, or that with a place changed.
+// P22 to P25, P30: all that eachSmall goes by, told nothing, what is inferred, or that with a place changed.
 func TestSmallPassByHand(t *testing.T) {
 	shapes := []impl.Shape{{}, shape([]int{0}), shape([]int{2}), shape([]int{0}, 9), shape([]int{1}, 1), shape([]int{0}, 8)}
 	passed := 0
 	for size := 1; size <= 3; size++ {
-		turn := 0
 		var h hand
+		try := func(u impl.Unit) {
+			want, ok := h.shapes(u.Methods[0])
+			mustPass(t, "small", u, 0, want)
+			mustUnitPass(t, "small", u, ok)
+			if ok {
+				passed++
+			}
+		}
 		eachSmall(size, func(u impl.Unit) {
 			if h.in == nil {
 				h = handOf(u)
 			}
-			// Of the largest ones with a catch each third, for there are many.
-			turn++
-			if size == 3 && turn%3 != 0 && len(u.Methods[0].Catches) > 0 || goesOn(u.Methods[0].Code[size-1].Kind) && turn%5 != 0 {
-				return
-			}
+			try(u)
 			u.Methods[0].Shapes = h.infer(u.Methods[0])
-			eachTelling(u, shapes, func(u impl.Unit) {
-				want, ok := h.shapes(u.Methods[0])
-				mustPass(t, "small", u, 0, want)
-				if impl.UnitPass(u) != ok {
-					t.Fatalf("UnitPass(%v) is not %v", u, ok)
-				}
-				if ok {
-					passed++
-				}
-			})
+			eachTelling(u, shapes, try)
 		})
 	}
 	if passed < 1000 {
