@@ -70,10 +70,14 @@ func (d *dice) someThings(h hand) []impl.Obj {
 	return m.Objs
 }
 
-// someCalls are a last call anywhere, and below it those that may wait for it, as far as there are any.
+// someCalls are a last call anywhere, and some below it.
 func (d *dice) someCalls(h machHand, m impl.Mach) []impl.Frame {
 	method := d.roll(len(h.u.Methods))
-	at := d.roll(len(h.u.Methods[method].Code))
+	return d.callsTo(h, m, method, d.roll(len(h.u.Methods[method].Code)))
+}
+
+// callsTo are a last call there, and below it those that may wait for it, as far as there are any.
+func (d *dice) callsTo(h machHand, m impl.Mach, method int, at int) []impl.Frame {
 	s := h.all[method][at]
 	all := []impl.Frame{frame(method, at, d.someValsOf(h.hand, m, s.Locals), d.someValsOf(h.hand, m, s.Stack)...)}
 	for range d.roll(impl.FrameMax) {

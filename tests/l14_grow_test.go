@@ -1,0 +1,123 @@
+package tests
+
+import (
+	"slices"
+	"testing"
+
+	"loop.example/entail/impl"
+)
+
+// hostAt is where a host has its instruction; one never comes there, but a machine may stand there.
+const hostAt = 2
+
+// hosts are the methods of a unit whose first one is still to be filled: 1 waits for that one, 2 does with a word left, and 3 sends.
+func hosts() impl.Unit {
+	first := withPops(plainMethod(-1, 0), impl.CodeMax)
+	first.Locals = impl.LocalMax
+	return impl.Unit{Classes: knownClasses(), Methods: []impl.Method{
+		first,
+		withCode(plainMethod(-1, 0, impl.TypeInts, impl.TypeClass+2), ins(impl.InsCall, 0), ins(impl.InsBack)),
+		withCode(plainMethod(2, 1, impl.TypeInt), ins(impl.InsPush, 5), ins(impl.InsCall, 0), ins(impl.InsDo, impl.OpAdd), ins(impl.InsBack)),
+		withCode(plainMethod(3, 1, impl.TypeInt), ins(impl.InsLoad, 0), ins(impl.InsLoad, 1), ins(impl.InsSend, 2, 1), ins(impl.InsBack)),
+	}}
+}
+
+// someIn is a type in one of those that are wanted; a few times only that of what leads to nothing, for that is in most.
+func (d *dice) someIn(h hand, wanted []int) int {
+	var may []int
+	for _, t := range allTypes(h.u.Classes)[1:] {
+		if slices.ContainsFunc(wanted, func(wide int) bool { return h.in[t][wide] }) && (t != impl.TypeNull || d.roll(8) == 0) {
+			may = append(may, t)
+		}
+	}
+	return pick(d, may)
+}
+
+// hostIns is an instruction of that kind which may stand in the shape.
+func (d *dice) hostIns(h hand, kind int) (impl.Ins, impl.Shape) {
+	first := h.u.Methods[0]
+	lists := instructionList(h.u, first)
+	list := lists[slices.IndexFunc(lists, func(list []impl.Ins) bool { return list[0].Kind == kind })]
+	for {
+		i := pick(d, list)
+		wanted, _ := h.wanted(first, i, impl.Shape{})
+		s := d.someShape(h.u.Classes, impl.LocalMax, d.roll(impl.StackMax+1-len(wanted)))
+		if jumping(kind) {
+			// The code behind takes twice what is left.
+			s.Stack = s.Stack[:min(2, len(s.Stack))]
+		}
+		for _, types := range wanted {
+			s.Stack = append(s.Stack, d.someIn(h, types))
+		}
+		if _, ok := h.step(first, i, s); ok {
+			return i, s
+		}
+	}
+}
+
+// endCode takes so many from the stack, and gives back a word.
+func endCode(count int) []impl.Ins {
+	return append(slices.Repeat([]impl.Ins{ins(impl.InsPop)}, count), ins(impl.InsPush, 77), ins(impl.InsBack))
+}
+
+// hostUnit is passed, and has an instruction of that kind at hostAt of its first method; what that throws may be caught.
+func (d *dice) hostUnit(kind int) impl.Unit {
+	u := hosts()
+	h := handOf(u)
+	i, s := d.hostIns(h, kind)
+	behind, _ := h.step(u.Methods[0], i, s)
+	next := behind
+	if !goesOn(kind) {
+		next = shape(s.Locals)
+	}
+	code := slices.Concat([]impl.Ins{ins(impl.InsPush), ins(impl.InsBack), i}, endCode(len(next.Stack)))
+	to, there := len(code), shape(s.Locals, 8+pick(d, []int{1, 4}))
+	if jumping(kind) {
+		code[hostAt].A, there = to, behind
+	}
+	first := withCode(u.Methods[0], append(code, endCode(len(there.Stack))...)...)
+	first.Shapes[hostAt], first.Shapes[hostAt+1], first.Shapes[to] = s, next, there
+	if !jumping(kind) && d.roll(2) == 0 {
+		first.Catches = []impl.Catch{{From: hostAt, To: hostAt + 1, At: to, Class: there.Stack[0] - 8}}
+	}
+	u.Methods[0] = first
+	return copyUnit(u)
+}
+
+// hostMach fits a host, and is at its instruction; there may be calls that wait.
+func (d *dice) hostMach(h machHand) impl.Mach {
+	m := impl.Mach{Objs: d.someThings(h.hand), Steps: d.roll(impl.RunMax)}
+	for range d.roll(4) {
+		m.Said = append(m.Said, d.roll(256)-128)
+	}
+	m.Frames = d.callsTo(h, m, 0, hostAt)
+	return m
+}
+
+// eachHostMach visits machines that fit, and are at an instruction of that kind, so many of each of so many units.
+func eachHostMach(seed int, kind int, units int, count int, visit func(h machHand, m impl.Mach)) {
+	d := &dice{state: uint64(seed)*7919 + 1}
+	for range units {
+		h := machHandOf(d.hostUnit(kind))
+		for range count {
+			visit(h, d.hostMach(h))
+		}
+	}
+}
+
+// What the other tests go by is passed, and fits, and has enough of all.
+func TestHosts(t *testing.T) {
+	var frames [impl.FrameMax + 1]int
+	for kind := impl.InsPush; kind <= impl.InsSay; kind++ {
+		eachHostMach(1, kind, 10, 10, func(h machHand, m impl.Mach) {
+			if !h.passed || !h.machFits(m) {
+				t.Fatalf("%v does not fit %v", m, h.u)
+			}
+			mustFit(t, "a host", h.u, m)
+			frames[len(m.Frames)]++
+		})
+	}
+	if slices.Min(frames[1:]) < 200 {
+		t.Error("too few of something", frames)
+	}
+}
