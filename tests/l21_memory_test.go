@@ -87,6 +87,33 @@ func memAsks(cs []impl.Class, m impl.Mem) []func() memAnswer {
 	return asks
 }
 
+// overwritable is an answer with lists, of the type A itself.
+type overwritable[A any] interface {
+	copied() A
+	equals(other A) bool
+	overwritten(t *testing.T)
+}
+
+// mustAnswerApart writes into each answer: no other answer changes by that, and all that was given stays.
+func mustAnswerApart[A overwritable[A]](t *testing.T, asks []func() A, mustStay func()) {
+	t.Helper()
+	for _, ask := range asks {
+		one, other := ask(), ask()
+		mustStay()
+		want := one.copied()
+		one.overwritten(t)
+		mustStay()
+		if !other.equals(want) {
+			t.Fatalf("it was %v, and is %v now", want, other)
+		}
+		other.overwritten(t)
+		mustStay()
+		if again := ask(); !again.equals(want) {
+			t.Fatalf("it was %v, and is %v when asked again", want, again)
+		}
+	}
+}
+
 // eachMemToAsk visits memories that are ok, and such that are not, also by their classes, with marks behind all ends.
 func eachMemToAsk(visit func(cs []impl.Class, m impl.Mem)) {
 	for _, h := range someMems(12, 120) {
@@ -115,21 +142,7 @@ func TestMemoriesAreNewMemory(t *testing.T) {
 				t.Fatalf("%v of %v is %v of %v now", was, first, now, cs)
 			}
 		}
-		for _, ask := range memAsks(cs, m) {
-			one, other := ask(), ask()
-			mustStay()
-			want := one.copied()
-			one.overwritten(t)
-			mustStay()
-			if !other.equals(want) {
-				t.Fatalf("of %v it was %v, and is %v now", m, want, other)
-			}
-			other.overwritten(t)
-			mustStay()
-			if again := ask(); !again.equals(want) {
-				t.Fatalf("of %v it was %v, and is %v when asked again", m, want, again)
-			}
-		}
+		mustAnswerApart(t, memAsks(cs, m), mustStay)
 	})
 }
 

@@ -94,21 +94,7 @@ func TestMovesAreNewMemory(t *testing.T) {
 				t.Fatalf("%v, %v of %v is %v, %v of %v now", was, wasRoots, first, now, roots, cs)
 			}
 		}
-		for _, ask := range gcAsks(cs, m, roots) {
-			one, other := ask(), ask()
-			mustStay()
-			want := one.copied()
-			one.overwritten(t)
-			mustStay()
-			if !other.equals(want) {
-				t.Fatalf("of %v, %v it was %v, and is %v now", m, roots, want, other)
-			}
-			other.overwritten(t)
-			mustStay()
-			if again := ask(); !again.equals(want) {
-				t.Fatalf("of %v, %v it was %v, and is %v when asked again", m, roots, want, again)
-			}
-		}
+		mustAnswerApart(t, gcAsks(cs, m, roots), mustStay)
 	})
 }
 
