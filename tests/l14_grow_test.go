@@ -60,28 +60,50 @@ func endCode(count int) []impl.Ins {
 	return append(slices.Repeat([]impl.Ins{ins(impl.InsPop)}, count), ins(impl.InsPush, 77), ins(impl.InsBack))
 }
 
-// hostUnit is passed, and has an instruction of that kind at hostAt of its first method; what that throws may be caught.
-func (d *dice) hostUnit(kind int) impl.Unit {
+// hostUnitOf is passed, and has that instruction at hostAt of its first method, where that shape is told; class is of what may be caught there.
+func hostUnitOf(i impl.Ins, s impl.Shape, class int) impl.Unit {
 	u := hosts()
-	h := handOf(u)
-	i, s := d.hostIns(h, kind)
-	behind, _ := h.step(u.Methods[0], i, s)
+	behind, _ := handOf(u).step(u.Methods[0], i, s)
 	next := behind
-	if !goesOn(kind) {
+	if !goesOn(i.Kind) {
 		next = shape(s.Locals)
 	}
 	code := slices.Concat([]impl.Ins{ins(impl.InsPush), ins(impl.InsBack), i}, endCode(len(next.Stack)))
-	to, there := len(code), shape(s.Locals, 8+pick(d, []int{1, 4}))
-	if jumping(kind) {
+	to, there := len(code), shape(s.Locals, 8+class)
+	if jumping(i.Kind) {
 		code[hostAt].A, there = to, behind
 	}
 	first := withCode(u.Methods[0], append(code, endCode(len(there.Stack))...)...)
 	first.Shapes[hostAt], first.Shapes[hostAt+1], first.Shapes[to] = s, next, there
-	if !jumping(kind) && d.roll(2) == 0 {
-		first.Catches = []impl.Catch{{From: hostAt, To: hostAt + 1, At: to, Class: there.Stack[0] - 8}}
-	}
 	u.Methods[0] = first
 	return copyUnit(u)
+}
+
+// lastTold is the last place of a host at which a shape is told: where it jumps, or where it may catch.
+func lastTold(u impl.Unit) int {
+	shapes := u.Methods[0].Shapes
+	to := len(shapes) - 1
+	for !shapes[to].Any {
+		to--
+	}
+	return to
+}
+
+// withCatch has what the instruction of a host throws caught by the host itself.
+func withCatch(u impl.Unit) impl.Unit {
+	to := lastTold(u)
+	class := u.Methods[0].Shapes[to].Stack[0] - 8
+	return catching(u, impl.Catch{From: hostAt, To: hostAt + 1, At: to, Class: class})
+}
+
+// hostUnit is a host of an instruction of that kind; what that throws may be caught.
+func (d *dice) hostUnit(kind int) impl.Unit {
+	i, s := d.hostIns(handOf(hosts()), kind)
+	u := hostUnitOf(i, s, pick(d, []int{1, 4}))
+	if !jumping(kind) && d.roll(2) == 0 {
+		return withCatch(u)
+	}
+	return u
 }
 
 // hostMach fits a host, and is at its instruction; there may be calls that wait.
