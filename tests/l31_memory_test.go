@@ -29,10 +29,10 @@ func wholeVm(v impl.Vm) impl.Vm {
 	return copyVm(v)
 }
 
-// numberLists are the lists of numbers of a machine, with their spare room.
+// numberLists are the lists of numbers of a machine, with their spare room, and those of calls that are gone.
 func numberLists(v impl.Vm) [][]int {
 	all := [][]int{v.Mem.Words, v.Faults, v.Said}
-	for _, c := range v.Calls {
+	for _, c := range v.Calls[:cap(v.Calls)] {
 		all = append(all, c.Locals, c.Stack)
 	}
 	for i, list := range all {
@@ -97,6 +97,10 @@ func vmAsks(u impl.Unit, v impl.Vm, m impl.Mach) []func() vmAnswer {
 		func() vmAnswer { return vmAnswer{mach: impl.VmView(u, v)} },
 		func() vmAnswer { return vmAnswer{mach: impl.MachView(u, m)} },
 		func() vmAnswer { return vmAnswer{vm: impl.VmNew(u, 3, 20)} },
+		func() vmAnswer { return vmAnswer{vm: impl.VmStep(u, v)} },
+	}
+	for _, steps := range []int{0, 9} {
+		asks = append(asks, func() vmAnswer { return vmAnswer{vm: impl.VmRun(u, 3, 20, steps, v.Faults)} })
 	}
 	for kind := range 4 {
 		asks = append(asks, func() vmAnswer { return vmAnswer{vm: impl.VmForce(u, v, kind)} })

@@ -25,6 +25,9 @@ func mustNotVm(t *testing.T, what string, u impl.Unit, v impl.Vm) {
 			t.Fatalf("%s: VmForce %d of %v is %v", what, kind, v, behind)
 		}
 	}
+	if behind := impl.VmStep(u, v); !isNoVm(behind) {
+		t.Fatalf("%s: a step behind %v it is %v", what, v, behind)
+	}
 }
 
 // mustVmAsByHand says whether a machine is ok, and asks all of it.
@@ -39,6 +42,7 @@ func mustVmAsByHand(t *testing.T, own machHand, v impl.Vm) bool {
 	for kind := range 3 {
 		mustForceAs(t, h, v, kind)
 	}
+	mustVmStepAs(t, h)
 	return true
 }
 

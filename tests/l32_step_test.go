@@ -311,3 +311,27 @@ func TestVmsThatStay(t *testing.T) {
 		t.Error("too few", count)
 	}
 }
+
+// P87, P88, P93, P94: each step of runs, behind what is moved ahead of it.
+func TestVmStepsOfRuns(t *testing.T) {
+	d := &dice{state: 77}
+	short, not := 0, 0
+	for _, u := range inMemoryUnits(0, 25) {
+		a := vmAsk{own: machHandOf(u), forced: d.someForced()}
+		a.young, a.old = d.someParts()
+		h := newVmHand(a.own, a.young, a.old)
+		for i := 0; !h.stays(); i++ {
+			h, _ = h.forced(a.kindAhead(i))
+			s := mustVmStepAs(t, h)
+			if s.short {
+				short++
+			} else {
+				not++
+			}
+			h = s.behind
+		}
+	}
+	if short < 30 || not < 3000 {
+		t.Error("too few of either", short, not)
+	}
+}
